@@ -1,6 +1,7 @@
 """The rules of LANGUAGE.md that are quick to check: files, characters, sizes, imports and a few signs."""
 
 import ast
+import builtins
 import os
 import unittest
 
@@ -55,6 +56,25 @@ class Language(unittest.TestCase):
                 self.assertNotIsInstance(node, BARRED, name)
                 if isinstance(node, ast.Constant):
                     self.assertNotIsInstance(node.value, (float, complex), name)
+                    self.assertFalse(isinstance(node.value, str) and "%" in node.value, name)
+
+    def test_names_of_builtins_are_not_taken(self):
+        for name in NAMES:
+            for node in nodes_of(name):
+                taken = [node.name] if isinstance(node, (ast.FunctionDef, ast.ClassDef)) else []
+                taken += [node.arg] if isinstance(node, ast.arg) else []
+                taken += [node.id] if isinstance(node, ast.Name) and isinstance(node.ctx, ast.Store) else []
+                # Not __init__, and not _, which a session's last value is kept by.
+                self.assertFalse([word for word in taken if word[0] != "_" and hasattr(builtins, word)], name)
+
+    def test_nothing_is_decorated_or_run_at_module_level(self):
+        rows = (ast.Expr, ast.ImportFrom, ast.FunctionDef, ast.ClassDef, ast.Assign)
+        for name in NAMES:
+            for node in nodes_of(name):
+                self.assertFalse(getattr(node, "decorator_list", []), name)
+                for row in node.body if isinstance(node, ast.Module) else []:
+                    self.assertIsInstance(row, rows, name)
+                    self.assertFalse(isinstance(row, ast.Expr) and not isinstance(row.value, ast.Constant), name)
 
 
 if __name__ == "__main__":

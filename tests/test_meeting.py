@@ -4,7 +4,7 @@ import unittest
 from itertools import combinations, permutations
 
 from onemeet.planes import join, meet, on
-from samples import PRIMES, crossed, some_triples, triples
+from samples import crossed, points_along, some_triples, triples
 
 
 def on_one_line(prime, points):
@@ -16,17 +16,8 @@ def on_one_line(prime, points):
 
 
 def points_of(prime, line, but, many):
-    """The first points that are on the line, the last of all before them, without those in `but`."""
-    a, b, c = line
-    if c:
-        by = pow(c, -1, prime)
-        found = [(0, 1, -b * by % prime)] + [(1, y, -(a + b * y) * by % prime) for y in range(prime)]
-    elif b:
-        found = [(0, 0, 1)] + [(1, -a * pow(b, -1, prime) % prime, z) for z in range(prime)]
-    else:
-        found = [(0, 0, 1)] + [(0, 1, z) for z in range(prime)]
-    assert all(crossed(prime, point, line) == 0 for point in found)
-    return [point for point in found if point not in but][:many]
+    """The first points that are on the line, without those in `but`."""
+    return [point for point in points_along(prime, line) if point not in but][:many]
 
 
 class JustOne(unittest.TestCase):

@@ -4,9 +4,8 @@ import unittest
 
 from onemeet.errors import Alike, BadLine, BadPoint, BadPrime, MeetError
 from onemeet.planes import join, meet, on
-from samples import NO_PRIMES, PLANES, PRIMES, Unhashable, no_triples, refusal, some_triples
+from samples import NO_PRIMES, PLANES, PRIMES, SOME_PRIMES, Unhashable, no_triples, refusal, some_triples
 
-SOME_PRIMES = [3, 5, 7, 31, 997]
 FIRST = (1, 0, 0)
 SECOND = (0, 1, 0)
 
